@@ -3,6 +3,7 @@ package asm
 import (
 	"warrant/api"
 	"warrant/code"
+	"warrant/jumps"
 )
 
 // program is what the lines of a text came to so far.
@@ -63,7 +64,7 @@ func (p *program) lead() (line int, e api.Errno) {
 		if !is {
 			return j.line, api.ErrLabel
 		}
-		p.list[j.ins] = led(p.list[j.ins], begins[to]-begins[j.ins+1])
+		p.list[j.ins] = jumps.Led(p.list[j.ins], begins[to]-begins[j.ins+1])
 	}
 	return 0, api.OK
 }

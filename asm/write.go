@@ -5,6 +5,7 @@ import (
 	"strings"
 
 	"warrant/api"
+	"warrant/jumps"
 )
 
 // spelled is an instruction that is right; a jump goes to goal.
@@ -40,7 +41,7 @@ func spelled(i api.Ins, goal string) string {
 	case api.OpExit:
 		return "exit"
 	}
-	if jumps(i.Op) {
+	if jumps.Is(i.Op) {
 		return words("if", dst, signs[i.Op], second(i), "goto", goal)
 	}
 	return words(dst, signs[i.Op], second(i))
